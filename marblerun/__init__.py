@@ -1,0 +1,1 @@
+"""Marblerun: boards whose lists turn under marbles."""
