@@ -53,8 +53,12 @@ class Board:
 
     def twin(self):
         other = Board(self.rows)
-        other.turns = list(self.turns)
-        other.loads = list(self.loads)
-        other.steps = list(self.steps)
-        other.taken = self.taken
+        other.stand_like(self)
         return other
+
+    def stand_like(self, other):
+        # The lists are copied, so that neither board is changed with the other.
+        self.turns = list(other.turns)
+        self.loads = list(other.loads)
+        self.steps = list(other.steps)
+        self.taken = other.taken

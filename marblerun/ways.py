@@ -1,6 +1,7 @@
 """Where the exits lead: what reaches the pit, which boards are open, and which are trees."""
 
 from marblerun.board import PIT, check_site
+from marblerun.errors import NotOpen
 
 
 def reached(rows):
@@ -15,6 +16,11 @@ def reached(rows):
 
 def is_open(board):
     return all(reached(board.rows))
+
+
+def check_open(board):
+    if not is_open(board):
+        raise NotOpen("the pit is not reached from each site")
 
 
 def last_exit(board, at):

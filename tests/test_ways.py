@@ -1,30 +1,9 @@
-import itertools
 import unittest
 
 from marblerun.board import PIT, Board
 from marblerun.errors import NoSite
 from marblerun.ways import is_open, is_tree, last_exit, reached
-from tests.standing import standing
-
-
-def turned(rows, turns):
-    board = Board(rows)
-    for at, place in enumerate(turns):
-        board.turn_to(at, place)
-    return board
-
-
-def small_rows():
-    # Every board of two sites with one or two exits each.
-    ways = (PIT, 0, 1)
-    row_choices = [list(row) for many in (1, 2) for row in itertools.product(ways, repeat=many)]
-    return [list(pair) for pair in itertools.product(row_choices, repeat=2)]
-
-
-def small_boards():
-    for rows in small_rows():
-        for turns in itertools.product(*[range(len(row)) for row in rows]):
-            yield turned(rows, turns)
+from tests.standing import small_boards, small_rows, standing, turned
 
 
 def comes_to_pit(rows, at, seen=()):
