@@ -3,6 +3,7 @@
 import itertools
 
 from marblerun.board import PIT, Board
+from marblerun.steps import step
 
 
 def standing(board):
@@ -68,3 +69,40 @@ def open_rows():
         chain([1] * 12),
         [[(at + 5) % 12, (at + 1) % 12, at - 1] for at in range(12)],
     ]
+
+
+def mixed_numbers(first):
+    # Numbers without an order to be seen in them, the same each time.
+    number = first
+    while True:
+        number = (number * 1103515245 + 12345) % 2147483648
+        yield number // 1024
+
+
+def mixed_row(numbers, sites, fewest, most):
+    many = fewest + next(numbers) % (most - fewest + 1)
+    return [next(numbers) % (sites + 1) - 1 for place in range(many)]
+
+
+def mixed_rows():
+    # Boards of each number of sites, with few exits, with some, and with as many as there may be; open and not.
+    numbers = mixed_numbers(7)
+    return [
+        [mixed_row(numbers, sites, fewest, most) for at in range(sites)]
+        for sites in range(1, 13)
+        for fewest, most in ((1, 1), (1, 2), (1, 3), (1, 8), (3, 6), (8, 8))
+    ]
+
+
+def mixed_boards():
+    # Each of the mixed rows from other turns, most of them with marbles, steps and takings.
+    numbers = mixed_numbers(11)
+    for rows in mixed_rows():
+        board = turned(rows, [next(numbers) % len(row) for row in rows])
+        for done in range(next(numbers) % 4):
+            board.load(next(numbers) % len(rows), 1 + next(numbers) % 3)
+            for stepped in range(next(numbers) % 30):
+                lying = [at for at, many in enumerate(board.loads) if many > 0]
+                if lying:
+                    step(board, lying[next(numbers) % len(lying)])
+        yield board
